@@ -34,10 +34,38 @@ def best(one):
     return (6, [one], [])
 
 
+def number(one):
+    return (7, [one], [])
+
+
+def must():
+    return (8, [], [])
+
+
+def corridor(cells):
+    return (9, [], [cells])
+
+
+def way(a, b):
+    return (10, [a, b], [])
+
+
+def bound(d, worths, rebates):
+    return (11, [d], [worths, rebates])
+
+
+def hardy(r, cells):
+    return (12, [r], [cells])
+
+
+def most(one, p):
+    return (13, [one, p], [])
+
+
 def flat(calls):
     line = []
-    for number, numbers, lists in calls:
-        line.append(number)
+    for call, numbers, lists in calls:
+        line.append(call)
         line.extend(numbers)
         for told_list in lists:
             line.append(len(told_list))

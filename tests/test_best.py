@@ -1,10 +1,9 @@
 import unittest
 from random import Random
 
+from tests.drawn import SHAPES, drawn_land
 from tests.lines import ask, best, fits, land, last, need, pieces, price, told
 from tests.plain import all_sets, best_set, does_fit, pieces_of, price_of
-
-SHAPES = [(w, h) for w in range(1, 13) for h in range(1, 13) if w * h <= 12]
 
 
 class BestTest(unittest.TestCase):
@@ -80,19 +79,6 @@ class BestTest(unittest.TestCase):
         place = land(2, 2, [6, 5, 1, 3], [1, 1, 0, 1])
         answered = ask(place, need([2] + [0] * 7), told(), best(0), best(1), told())
         self.assertEqual(answered[2], answered[5])
-
-
-def drawn_land(draw, w, h):
-    """A land and needs such that ties, free cells and needs that can't be met all come up."""
-    count = w * h
-    dearest = draw.choice([0, 1, 3, 20, 1000])
-    prices = [draw.randint(0, dearest) for cell in range(count)]
-    kinds = [draw.randint(0, 255) & draw.choice([255, 3, 128, 17]) for cell in range(count)]
-    needs = [0] * 8
-    for kind in draw.sample(range(8), draw.randint(0, 8)):
-        held = sum(held >> kind & 1 for held in kinds)
-        needs[kind] = draw.randint(0, min(held + draw.choice([0, 0, 0, 1]), 12))
-    return prices, kinds, needs
 
 
 class Promise1Test(unittest.TestCase):
